@@ -227,7 +227,7 @@ func shapes(past bool, kids []api.Formula) []api.Formula {
 	return list
 }
 
-// The section "Errors": numbers as the chapter lists them.
+// The section "Errors": numbers as the chapter lists them; limits and operators as api has them.
 func TestNumbers(t *testing.T) {
 	for number, want := range map[api.Errno]int{
 		api.ErrSyntax: 40, api.ErrLimitText: 41, api.ErrLimitNodes: 42, api.ErrLimitDepth: 43, api.ErrLimitProps: 44,
@@ -239,6 +239,16 @@ func TestNumbers(t *testing.T) {
 	}
 	if api.MaxText != 65536 || api.MaxNodes != 1000 || api.MaxDepth != 100 || api.MaxProps != 8 {
 		t.Error("limits are others")
+	}
+	ops := []api.Op{
+		api.OpTrue, api.OpFalse, api.OpProp, api.OpNot, api.OpAnd, api.OpOr, api.OpImp, api.OpIff,
+		api.OpNext, api.OpEvent, api.OpAlways, api.OpUntil, api.OpRelease, api.OpWeak, api.OpStrong,
+		api.OpYest, api.OpWeakYest, api.OpOnce, api.OpHist, api.OpSince, api.OpTrig,
+	}
+	for i, o := range ops {
+		if int(o) != i+1 {
+			t.Errorf("an operator has the number %d, want %d", o, i+1)
+		}
 	}
 }
 
