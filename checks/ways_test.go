@@ -1,0 +1,106 @@
+package checks
+
+import (
+	"go/ast"
+	"go/parser"
+	"go/token"
+	"path/filepath"
+	"strings"
+	"testing"
+)
+
+// codeOf are the files of a package of the program, without its tests.
+func codeOf(t *testing.T, folder string) []*ast.File {
+	t.Helper()
+	paths, err := filepath.Glob(filepath.Join("..", folder, "*.go"))
+	if err != nil {
+		t.Fatal(err)
+	}
+	var files []*ast.File
+	for _, path := range paths {
+		if strings.HasSuffix(path, "_test.go") {
+			continue
+		}
+		file, err := parser.ParseFile(token.NewFileSet(), path, nil, 0)
+		if err != nil {
+			t.Fatal(err)
+		}
+		files = append(files, file)
+	}
+	return files
+}
+
+// typesOf are the types that these files declare.
+func typesOf(files []*ast.File) map[string]bool {
+	types := map[string]bool{}
+	for _, file := range files {
+		ast.Inspect(file, func(n ast.Node) bool {
+			if s, ok := n.(*ast.TypeSpec); ok {
+				types[s.Name.Name] = true
+			}
+			return true
+		})
+	}
+	return types
+}
+
+// methodTables counts, of each function, the method expressions that stand in array literals of its own.
+func methodTables(files []*ast.File) map[string]int {
+	types := typesOf(files)
+	counts := map[string]int{}
+	count := func(function string, table ast.Node) {
+		ast.Inspect(table, func(n ast.Node) bool {
+			if s, ok := n.(*ast.SelectorExpr); ok {
+				if x, ok := s.X.(*ast.Ident); ok && types[x.Name] {
+					counts[function]++
+				}
+			}
+			return true
+		})
+	}
+	for _, file := range files {
+		for _, d := range file.Decls {
+			f, ok := d.(*ast.FuncDecl)
+			if !ok || f.Body == nil {
+				continue
+			}
+			ast.Inspect(f.Body, func(n ast.Node) bool {
+				c, ok := n.(*ast.CompositeLit)
+				if !ok {
+					return true
+				}
+				if a, ok := c.Type.(*ast.ArrayType); ok && a.Len != nil {
+					count(f.Name.Name, c)
+				}
+				return true
+			})
+		}
+	}
+	return counts
+}
+
+// Chapter 8, 'Ways': what each of the six operators of the past keeps stands in an array of method expressions, made within a function; the numbers that errors wrap are found by errors.As.
+func TestWaysOfPast(t *testing.T) {
+	files := codeOf(t, "past")
+	most := 0
+	for _, n := range methodTables(files) {
+		most = max(most, n)
+	}
+	if most < 6 {
+		t.Errorf("an array of %d method expressions at most", most)
+	}
+	asks := 0
+	for _, file := range files {
+		ast.Inspect(file, func(n ast.Node) bool {
+			if s, ok := n.(*ast.SelectorExpr); ok && s.Sel.Name == "As" {
+				if x, ok := s.X.(*ast.Ident); ok && x.Name == "errors" {
+					asks++
+				}
+			}
+			return true
+		})
+	}
+	if asks == 0 {
+		t.Error("errors.As is not asked")
+	}
+}
