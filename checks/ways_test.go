@@ -104,3 +104,72 @@ func TestWaysOfPast(t *testing.T) {
 		t.Error("errors.As is not asked")
 	}
 }
+
+// structsOf are the struct types that these files declare.
+func structsOf(files []*ast.File) map[string]bool {
+	structs := map[string]bool{}
+	for _, file := range files {
+		ast.Inspect(file, func(n ast.Node) bool {
+			if s, ok := n.(*ast.TypeSpec); ok {
+				if _, ok := s.Type.(*ast.StructType); ok {
+					structs[s.Name.Name] = true
+				}
+			}
+			return true
+		})
+	}
+	return structs
+}
+
+// callsItself tells whether a function's body calls it, a method that of its own receiver.
+func callsItself(f *ast.FuncDecl) bool {
+	found := false
+	ast.Inspect(f.Body, func(n ast.Node) bool {
+		c, ok := n.(*ast.CallExpr)
+		if !ok {
+			return true
+		}
+		switch x := c.Fun.(type) {
+		case *ast.Ident:
+			found = found || f.Recv == nil && x.Name == f.Name.Name
+		case *ast.SelectorExpr:
+			of, ok := x.X.(*ast.Ident)
+			found = found || ok && f.Recv != nil && of.Name == f.Recv.List[0].Names[0].Name && x.Sel.Name == f.Name.Name
+		}
+		return true
+	})
+	return found
+}
+
+// Chapter 9, 'Ways': pairs stand in a map whose keys are structs; what fits is found by a function that calls itself; nodes are put in order by a closure.
+func TestWaysOfTableau(t *testing.T) {
+	files := codeOf(t, "tableau")
+	structs := structsOf(files)
+	var maps, recursions, sorts int
+	for _, file := range files {
+		ast.Inspect(file, func(n ast.Node) bool {
+			switch x := n.(type) {
+			case *ast.MapType:
+				if key, ok := x.Key.(*ast.Ident); ok && structs[key.Name] {
+					maps++
+				}
+			case *ast.FuncDecl:
+				if callsItself(x) {
+					recursions++
+				}
+			case *ast.CallExpr:
+				s, ok := x.Fun.(*ast.SelectorExpr)
+				if !ok || !strings.HasPrefix(s.Sel.Name, "Sort") || len(x.Args) != 2 {
+					return true
+				}
+				if _, ok := x.Args[1].(*ast.FuncLit); ok {
+					sorts++
+				}
+			}
+			return true
+		})
+	}
+	if maps == 0 || recursions == 0 || sorts == 0 {
+		t.Errorf("%d maps with structs as keys, %d functions that call themselves, %d orders by closures", maps, recursions, sorts)
+	}
+}
