@@ -173,3 +173,41 @@ func TestWaysOfTableau(t *testing.T) {
 		t.Errorf("%d maps with structs as keys, %d functions that call themselves, %d orders by closures", maps, recursions, sorts)
 	}
 }
+
+// Chapter 10, 'Ways': pairs are numbered by a map whose keys are structs; Letters is a function to range over: a closure.
+func TestWaysOfBuchi(t *testing.T) {
+	files := codeOf(t, "buchi")
+	structs := structsOf(files)
+	var maps, closures int
+	for _, file := range files {
+		ast.Inspect(file, func(n ast.Node) bool {
+			switch x := n.(type) {
+			case *ast.MapType:
+				if key, ok := x.Key.(*ast.Ident); ok && structs[key.Name] {
+					maps++
+				}
+			case *ast.FuncDecl:
+				if x.Name.Name == "Letters" && handsOutClosure(x) {
+					closures++
+				}
+			}
+			return true
+		})
+	}
+	if maps == 0 || closures == 0 {
+		t.Errorf("%d maps with structs as keys, %d closures that Letters hands out", maps, closures)
+	}
+}
+
+// handsOutClosure tells whether a function returns a function literal of its own.
+func handsOutClosure(f *ast.FuncDecl) bool {
+	found := false
+	ast.Inspect(f.Body, func(n ast.Node) bool {
+		if r, ok := n.(*ast.ReturnStmt); ok && len(r.Results) == 1 {
+			_, is := r.Results[0].(*ast.FuncLit)
+			found = found || is
+		}
+		return true
+	})
+	return found
+}
