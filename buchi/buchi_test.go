@@ -310,6 +310,7 @@ func TestStepNil(t *testing.T) {
 		from   *bits.Set
 		letter uint16
 	}{
+		{"no set", a, nil, 1}, {"no set of no states", api.Buchi{}, nil, 0},
 		{"another width, greater", a, bits.Of(4, 0), 1}, {"another width, less", a, bits.Of(2, 0), 1}, {"no width", a, bits.New(0), 1}, {"the greatest width", a, bits.Of(65536, 0), 1},
 		{"letter 4", a, bits.Of(3, 0), 4}, {"letter 5", a, bits.Of(3, 0), 5}, {"the greatest letter", a, bits.Of(3, 0), 65535}, {"letter of the ninth name", a, bits.Of(3, 0), 256},
 		{"not right", wrong, bits.Of(3, 0), 1}, {"letter 1 over no names", api.Buchi{States: 1}, bits.New(1), 1}, {"no states, another width", api.Buchi{}, bits.New(1), 0},

@@ -70,5 +70,13 @@ func isLetter(letter uint16, names []string) bool { return letter>>len(names) ==
 
 // compareEdges is the order in which edges rise.
 func compareEdges(a, b api.Edge) int {
-	return cmp.Or(cmp.Compare(a.From, b.From), cmp.Compare(a.To, b.To), cmp.Compare(a.Must, b.Must), cmp.Compare(a.Not, b.Not))
+	switch {
+	case a.From != b.From:
+		return cmp.Compare(a.From, b.From)
+	case a.To != b.To:
+		return cmp.Compare(a.To, b.To)
+	case a.Must != b.Must:
+		return cmp.Compare(a.Must, b.Must)
+	}
+	return cmp.Compare(a.Not, b.Not)
 }
