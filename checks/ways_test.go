@@ -211,3 +211,67 @@ func handsOutClosure(f *ast.FuncDecl) bool {
 	})
 	return found
 }
+
+// callsOf are, of each function of these files, the names of those of its package that it calls or hands on.
+func callsOf(files []*ast.File) map[string]map[string]bool {
+	calls := map[string]map[string]bool{}
+	for _, file := range files {
+		for _, d := range file.Decls {
+			if f, ok := d.(*ast.FuncDecl); ok {
+				calls[f.Name.Name] = map[string]bool{}
+			}
+		}
+	}
+	for _, file := range files {
+		for _, d := range file.Decls {
+			f, ok := d.(*ast.FuncDecl)
+			if !ok || f.Body == nil {
+				continue
+			}
+			ast.Inspect(f.Body, func(n ast.Node) bool {
+				if x, ok := n.(*ast.Ident); ok && calls[x.Name] != nil {
+					calls[f.Name.Name][x.Name] = true
+				}
+				return true
+			})
+		}
+	}
+	return calls
+}
+
+// Chapter 11, its beginning and 'Ways': the package stands on api alone; nothing in it calls itself, not by way of others either; Breadth is a function to range over, and a closure.
+func TestWaysOfGraph(t *testing.T) {
+	files := codeOf(t, "graph")
+	closures := 0
+	for _, file := range files {
+		for _, i := range file.Imports {
+			if strings.HasPrefix(i.Path.Value, `"augur/`) && i.Path.Value != `"augur/api"` {
+				t.Errorf("it imports %s", i.Path.Value)
+			}
+		}
+		for _, d := range file.Decls {
+			if f, ok := d.(*ast.FuncDecl); ok && f.Name.Name == "Breadth" && handsOutClosure(f) {
+				closures++
+			}
+		}
+	}
+	if closures != 1 {
+		t.Errorf("%d closures that Breadth hands out", closures)
+	}
+	calls := callsOf(files)
+	for name := range calls {
+		reached, wait := map[string]bool{}, []string{name}
+		for len(wait) > 0 {
+			for to := range calls[wait[0]] {
+				if !reached[to] {
+					reached[to] = true
+					wait = append(wait, to)
+				}
+			}
+			wait = wait[1:]
+		}
+		if reached[name] {
+			t.Errorf("%s calls itself", name)
+		}
+	}
+}
