@@ -5,6 +5,7 @@ import (
 	"go/parser"
 	"go/token"
 	"path/filepath"
+	"slices"
 	"strings"
 	"testing"
 )
@@ -274,4 +275,46 @@ func TestWaysOfGraph(t *testing.T) {
 			t.Errorf("%s calls itself", name)
 		}
 	}
+}
+
+// Chapter 12, its beginning and 'Ways': the package stands on api, bits, words, buchi and graph; sets of bits are gone through by a range over a function; what is to be least is told by a closure that is handed in.
+func TestWaysOfEmpty(t *testing.T) {
+	var ranges, closures int
+	for _, file := range codeOf(t, "empty") {
+		for _, i := range file.Imports {
+			below := []string{`"augur/api"`, `"augur/bits"`, `"augur/words"`, `"augur/buchi"`, `"augur/graph"`}
+			if strings.HasPrefix(i.Path.Value, `"augur/`) && !slices.Contains(below, i.Path.Value) {
+				t.Errorf("it imports %s", i.Path.Value)
+			}
+		}
+		ast.Inspect(file, func(n ast.Node) bool {
+			switch x := n.(type) {
+			case *ast.RangeStmt:
+				if c, ok := x.X.(*ast.CallExpr); ok && nameOf(c.Fun) == "All" {
+					ranges++
+				}
+			case *ast.CallExpr:
+				if nameOf(x.Fun) == "least" && len(x.Args) == 2 {
+					if _, ok := x.Args[1].(*ast.FuncLit); ok {
+						closures++
+					}
+				}
+			}
+			return true
+		})
+	}
+	if ranges == 0 || closures == 0 {
+		t.Errorf("%d ranges over sets, %d closures that tell what is least", ranges, closures)
+	}
+}
+
+// nameOf is the name of what is called, be it a function or a method.
+func nameOf(called ast.Expr) string {
+	switch x := called.(type) {
+	case *ast.Ident:
+		return x.Name
+	case *ast.SelectorExpr:
+		return x.Sel.Name
+	}
+	return ""
 }
