@@ -308,6 +308,58 @@ func TestWaysOfEmpty(t *testing.T) {
 	}
 }
 
+// Chapter 13, its beginning and 'Ways': the package stands on bits and buchi; subsets are numbered by a table of sets, and gone through by a labelled loop that is left as a whole; Run and Has take letters one by one.
+func TestWaysOfDFA(t *testing.T) {
+	var tables, loops, variadic int
+	for _, file := range codeOf(t, "dfa") {
+		for _, i := range file.Imports {
+			below := []string{`"augur/api"`, `"augur/bits"`, `"augur/buchi"`}
+			if strings.HasPrefix(i.Path.Value, `"augur/`) && !slices.Contains(below, i.Path.Value) {
+				t.Errorf("it imports %s", i.Path.Value)
+			}
+		}
+		ast.Inspect(file, func(n ast.Node) bool {
+			switch x := n.(type) {
+			case *ast.CallExpr:
+				if nameOf(x.Fun) == "NewTable" {
+					tables++
+				}
+			case *ast.LabeledStmt:
+				if loop, ok := x.Stmt.(*ast.ForStmt); ok && leavesByLabel(loop, x.Label.Name) {
+					loops++
+				}
+			case *ast.FuncDecl:
+				if (x.Name.Name == "Run" || x.Name.Name == "Has") && takesOneByOne(x) {
+					variadic++
+				}
+			}
+			return true
+		})
+	}
+	if tables == 0 || loops == 0 || variadic != 2 {
+		t.Errorf("%d tables of sets, %d labelled loops, %d calls that take letters one by one", tables, loops, variadic)
+	}
+}
+
+// leavesByLabel tells whether a loop is left, or gone on with, by that label.
+func leavesByLabel(loop *ast.ForStmt, label string) bool {
+	found := false
+	ast.Inspect(loop, func(n ast.Node) bool {
+		if b, ok := n.(*ast.BranchStmt); ok && b.Label != nil && b.Label.Name == label {
+			found = true
+		}
+		return true
+	})
+	return found
+}
+
+// takesOneByOne tells whether a function is variadic.
+func takesOneByOne(f *ast.FuncDecl) bool {
+	list := f.Type.Params.List
+	_, is := list[len(list)-1].Type.(*ast.Ellipsis)
+	return is
+}
+
 // nameOf is the name of what is called, be it a function or a method.
 func nameOf(called ast.Expr) string {
 	switch x := called.(type) {
