@@ -341,6 +341,80 @@ func TestWaysOfDFA(t *testing.T) {
 	}
 }
 
+// Chapter 14, its beginning and 'Ways': the package stands on api, graph and dfa; pairs of states are numbered by a map whose key is a struct (a generic function's, to which a pair is handed); rows of parts are texts that are a map's keys; Run takes letters one by one.
+func TestWaysOfMoore(t *testing.T) {
+	files := codeOf(t, "moore")
+	structs := structsOf(files)
+	var pairs, texts, variadic int
+	for _, file := range files {
+		for _, i := range file.Imports {
+			below := []string{`"augur/api"`, `"augur/graph"`, `"augur/dfa"`}
+			if strings.HasPrefix(i.Path.Value, `"augur/`) && !slices.Contains(below, i.Path.Value) {
+				t.Errorf("it imports %s", i.Path.Value)
+			}
+		}
+		generic := numbersByMap(file)
+		ast.Inspect(file, func(n ast.Node) bool {
+			switch x := n.(type) {
+			case *ast.MapType:
+				if nameOf(x.Key) == "string" {
+					texts++
+				}
+			case *ast.FuncDecl:
+				if x.Name.Name == "Run" && takesOneByOne(x) {
+					variadic++
+				}
+			}
+			return true
+		})
+		for _, function := range generic {
+			pairs += structsHandedTo(files, function, structs)
+		}
+	}
+	if pairs == 0 || texts == 0 || variadic != 1 {
+		t.Errorf("%d maps of pairs, %d maps by texts, %d calls that take letters one by one", pairs, texts, variadic)
+	}
+}
+
+// numbersByMap are the generic functions of a file that make a map whose key is their own type parameter.
+func numbersByMap(file *ast.File) []string {
+	var names []string
+	for _, d := range file.Decls {
+		f, ok := d.(*ast.FuncDecl)
+		if !ok || f.Type.TypeParams == nil {
+			continue
+		}
+		key := f.Type.TypeParams.List[0].Names[0].Name
+		ast.Inspect(f.Body, func(n ast.Node) bool {
+			if m, ok := n.(*ast.MapType); ok && nameOf(m.Key) == key {
+				names = append(names, f.Name.Name)
+			}
+			return true
+		})
+	}
+	return names
+}
+
+// structsHandedTo counts the values of the package's own struct types that are written where a function is called.
+func structsHandedTo(files []*ast.File, function string, structs map[string]bool) int {
+	count := 0
+	for _, file := range files {
+		ast.Inspect(file, func(n ast.Node) bool {
+			c, ok := n.(*ast.CallExpr)
+			if !ok || nameOf(c.Fun) != function {
+				return true
+			}
+			for _, arg := range c.Args {
+				if value, ok := arg.(*ast.CompositeLit); ok && structs[nameOf(value.Type)] {
+					count++
+				}
+			}
+			return true
+		})
+	}
+	return count
+}
+
 // leavesByLabel tells whether a loop is left, or gone on with, by that label.
 func leavesByLabel(loop *ast.ForStmt, label string) bool {
 	found := false
