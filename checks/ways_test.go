@@ -415,6 +415,81 @@ func structsHandedTo(files []*ast.File, function string, structs map[string]bool
 	return count
 }
 
+// Chapter 15, its beginning and 'Ways': the package stands on api, tree, words, moore and buchi; what is none is given up by panic, and recovered in a deferred function; lists are read by a generic function to which it is handed how a thing is read.
+func TestWaysOfCodec(t *testing.T) {
+	files := codeOf(t, "codec")
+	var panics, recovers, deferred, lists int
+	for _, file := range files {
+		for _, i := range file.Imports {
+			below := []string{`"augur/api"`, `"augur/tree"`, `"augur/words"`, `"augur/moore"`, `"augur/buchi"`}
+			if strings.HasPrefix(i.Path.Value, `"augur/`) && !slices.Contains(below, i.Path.Value) {
+				t.Errorf("it imports %s", i.Path.Value)
+			}
+		}
+		ast.Inspect(file, func(n ast.Node) bool {
+			switch x := n.(type) {
+			case *ast.CallExpr:
+				panics += countOf(nameOf(x.Fun) == "panic")
+				recovers += countOf(nameOf(x.Fun) == "recover")
+			case *ast.DeferStmt:
+				if f, ok := x.Call.Fun.(*ast.FuncLit); ok {
+					deferred += callsTo(f.Body, "recover")
+				}
+			}
+			return true
+		})
+		for _, function := range genericWithFunction(file) {
+			for _, other := range files {
+				lists += callsTo(other, function)
+			}
+		}
+	}
+	if panics == 0 || recovers == 0 || deferred != recovers {
+		t.Errorf("%d panics, %d recovers, %d of them in deferred functions", panics, recovers, deferred)
+	}
+	if lists < 8 {
+		t.Errorf("generic functions that are handed a function are called %d times", lists)
+	}
+}
+
+func countOf(is bool) int {
+	if is {
+		return 1
+	}
+	return 0
+}
+
+// callsTo counts the calls of a function that stand within something.
+func callsTo(within ast.Node, function string) int {
+	count := 0
+	ast.Inspect(within, func(n ast.Node) bool {
+		if c, ok := n.(*ast.CallExpr); ok {
+			count += countOf(nameOf(c.Fun) == function)
+		}
+		return true
+	})
+	return count
+}
+
+// genericWithFunction are the generic functions of a file to which a function is handed.
+func genericWithFunction(file *ast.File) []string {
+	var names []string
+	for _, d := range file.Decls {
+		f, ok := d.(*ast.FuncDecl)
+		if !ok || f.Type.TypeParams == nil {
+			continue
+		}
+		isFunction := func(p *ast.Field) bool {
+			_, is := p.Type.(*ast.FuncType)
+			return is
+		}
+		if slices.ContainsFunc(f.Type.Params.List, isFunction) {
+			names = append(names, f.Name.Name)
+		}
+	}
+	return names
+}
+
 // leavesByLabel tells whether a loop is left, or gone on with, by that label.
 func leavesByLabel(loop *ast.ForStmt, label string) bool {
 	found := false
