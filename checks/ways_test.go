@@ -452,6 +452,67 @@ func TestWaysOfCodec(t *testing.T) {
 	}
 }
 
+// Chapter 16, its beginning and 'Ways': the package stands on api, tree, syntax, nnf, tableau, buchi, empty, dfa and moore; a mutex is let go of in deferred calls alone; who waits does so at a channel that is closed; All's goroutines range over a channel that is closed, and a WaitGroup waits for them; texts come one by one.
+func TestWaysOfSynth(t *testing.T) {
+	var locks, unlocks, deferred, receives, ranges, closes, waits, variadic int
+	for _, file := range codeOf(t, "synth") {
+		for _, i := range file.Imports {
+			below := []string{`"augur/api"`, `"augur/tree"`, `"augur/syntax"`, `"augur/nnf"`, `"augur/tableau"`, `"augur/buchi"`, `"augur/empty"`, `"augur/dfa"`, `"augur/moore"`}
+			if strings.HasPrefix(i.Path.Value, `"augur/`) && !slices.Contains(below, i.Path.Value) {
+				t.Errorf("it imports %s", i.Path.Value)
+			}
+		}
+		locks += callsTo(file, "Lock")
+		unlocks += callsTo(file, "Unlock")
+		closes += callsTo(file, "close")
+		ast.Inspect(file, func(n ast.Node) bool {
+			switch x := n.(type) {
+			case *ast.DeferStmt:
+				deferred += countOf(nameOf(x.Call.Fun) == "Unlock")
+			case *ast.UnaryExpr:
+				receives += countOf(x.Op == token.ARROW)
+			case *ast.FuncDecl:
+				if x.Name.Name == "All" {
+					variadic += countOf(takesOneByOne(x))
+					waits += callsTo(x, "Wait")
+					ranges += rangesInGoroutines(x)
+				}
+			}
+			return true
+		})
+	}
+	if locks == 0 || unlocks != locks || deferred != unlocks {
+		t.Errorf("a mutex is locked at %d places, let go of at %d, at %d of them in a deferred call", locks, unlocks, deferred)
+	}
+	if receives == 0 || closes < 2 || ranges != 1 || waits != 1 || variadic != 1 {
+		t.Errorf("%d places where one waits, %d where a channel is closed; of All %d ranges of goroutines, %d waits; texts one by one: %d", receives, closes, ranges, waits, variadic)
+	}
+}
+
+// rangesInGoroutines counts the ranges of goroutines over what a function has made by make(chan ..).
+func rangesInGoroutines(f *ast.FuncDecl) int {
+	channels := map[string]bool{}
+	count := 0
+	ast.Inspect(f.Body, func(n ast.Node) bool {
+		switch x := n.(type) {
+		case *ast.AssignStmt:
+			if c, ok := x.Rhs[0].(*ast.CallExpr); ok && nameOf(c.Fun) == "make" {
+				_, is := c.Args[0].(*ast.ChanType)
+				channels[nameOf(x.Lhs[0])] = is
+			}
+		case *ast.GoStmt:
+			ast.Inspect(x.Call, func(n ast.Node) bool {
+				if r, ok := n.(*ast.RangeStmt); ok {
+					count += countOf(channels[nameOf(r.X)])
+				}
+				return true
+			})
+		}
+		return true
+	})
+	return count
+}
+
 func countOf(is bool) int {
 	if is {
 		return 1
