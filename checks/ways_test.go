@@ -513,6 +513,89 @@ func rangesInGoroutines(f *ast.FuncDecl) int {
 	return count
 }
 
+// Chapter 17, its beginning and 'Ways': the package stands on api and moore; what is final is found by a closure, and asked of what was found; names are found in a map by texts; All hands out a closure that ranges over the letters that it is handed; names and events come one by one.
+func TestWaysOfRunner(t *testing.T) {
+	var maps, closures, ranges, variadic int
+	for _, file := range codeOf(t, "runner") {
+		for _, i := range file.Imports {
+			below := []string{`"augur/api"`, `"augur/moore"`}
+			if strings.HasPrefix(i.Path.Value, `"augur/`) && !slices.Contains(below, i.Path.Value) {
+				t.Errorf("it imports %s", i.Path.Value)
+			}
+		}
+		ast.Inspect(file, func(n ast.Node) bool {
+			switch x := n.(type) {
+			case *ast.MapType:
+				maps += countOf(nameOf(x.Key) == "string")
+			case *ast.FuncDecl:
+				closures += callsToOwnClosures(x)
+				switch x.Name.Name {
+				case "Letter", "Event", "Run":
+					variadic += countOf(takesOneByOne(x))
+				case "All":
+					ranges += rangesOfClosure(x, "letters")
+				case "Final":
+					if callsWithin(x) > 0 {
+						t.Error("Final calls something: it was to be found ahead of all steps")
+					}
+				}
+			}
+			return true
+		})
+	}
+	if maps == 0 || closures < 2 || ranges != 1 || variadic != 3 {
+		t.Errorf("%d maps by texts, closures are called at %d places, %d ranges over letters in what All hands out, %d calls that take things one by one", maps, closures, ranges, variadic)
+	}
+}
+
+// callsWithin counts all calls that stand in a function.
+func callsWithin(f *ast.FuncDecl) int {
+	count := 0
+	ast.Inspect(f.Body, func(n ast.Node) bool {
+		_, is := n.(*ast.CallExpr)
+		count += countOf(is)
+		return true
+	})
+	return count
+}
+
+// callsToOwnClosures counts the calls of a function's closures to which it gives names.
+func callsToOwnClosures(f *ast.FuncDecl) int {
+	count := 0
+	ast.Inspect(f.Body, func(n ast.Node) bool {
+		if x, ok := n.(*ast.AssignStmt); ok {
+			for i, made := range x.Rhs {
+				if _, is := made.(*ast.FuncLit); is {
+					count += callsTo(f.Body, nameOf(x.Lhs[i]))
+				}
+			}
+		}
+		return true
+	})
+	return count
+}
+
+// rangesOfClosure counts the ranges over that name in closures that a function returns.
+func rangesOfClosure(f *ast.FuncDecl, name string) int {
+	count := 0
+	ast.Inspect(f.Body, func(n ast.Node) bool {
+		r, ok := n.(*ast.ReturnStmt)
+		if !ok || len(r.Results) != 1 {
+			return true
+		}
+		if made, ok := r.Results[0].(*ast.FuncLit); ok {
+			ast.Inspect(made.Body, func(n ast.Node) bool {
+				if over, ok := n.(*ast.RangeStmt); ok {
+					count += countOf(nameOf(over.X) == name)
+				}
+				return true
+			})
+		}
+		return true
+	})
+	return count
+}
+
 func countOf(is bool) int {
 	if is {
 		return 1
