@@ -548,6 +548,58 @@ func TestWaysOfRunner(t *testing.T) {
 	}
 }
 
+// Chapter 18, its beginning and 'Ways': the package stands on api, words, nnf, tableau, buchi, graph, empty, moore and synth; a way is looked for in a graph, with a goal that is a closure; Witness takes letters one by one; pairs of states stand in a map whose key is a struct of two numbers.
+func TestWaysOfExplain(t *testing.T) {
+	files := codeOf(t, "explain")
+	structs := structsOf(files)
+	var goals, maps, variadic int
+	for _, file := range files {
+		for _, i := range file.Imports {
+			below := []string{`"augur/api"`, `"augur/words"`, `"augur/nnf"`, `"augur/tableau"`, `"augur/buchi"`, `"augur/graph"`, `"augur/empty"`, `"augur/moore"`, `"augur/synth"`}
+			if strings.HasPrefix(i.Path.Value, `"augur/`) && !slices.Contains(below, i.Path.Value) {
+				t.Errorf("it imports %s", i.Path.Value)
+			}
+		}
+		ast.Inspect(file, func(n ast.Node) bool {
+			switch x := n.(type) {
+			case *ast.MapType:
+				maps += countOf(structs[nameOf(x.Key)] && nameOf(x.Key) == "pair")
+			case *ast.FuncDecl:
+				goals += closuresHandedTo(x, "Way")
+				variadic += countOf(x.Name.Name == "Witness" && takesOneByOne(x))
+			}
+			return true
+		})
+	}
+	if goals == 0 || maps == 0 || variadic != 1 {
+		t.Errorf("%d goals that are closures, %d maps of pairs, %d calls that take letters one by one", goals, maps, variadic)
+	}
+}
+
+// closuresHandedTo counts the closures, written there or ahead by a name, that one function hands to another one as its last argument.
+func closuresHandedTo(f *ast.FuncDecl, function string) int {
+	made := map[string]bool{}
+	count := 0
+	ast.Inspect(f.Body, func(n ast.Node) bool {
+		switch x := n.(type) {
+		case *ast.AssignStmt:
+			for i, value := range x.Rhs {
+				if _, is := value.(*ast.FuncLit); is {
+					made[nameOf(x.Lhs[i])] = true
+				}
+			}
+		case *ast.CallExpr:
+			if nameOf(x.Fun) == function && len(x.Args) > 0 {
+				last := x.Args[len(x.Args)-1]
+				_, is := last.(*ast.FuncLit)
+				count += countOf(is || made[nameOf(last)])
+			}
+		}
+		return true
+	})
+	return count
+}
+
 // callsWithin counts all calls that stand in a function.
 func callsWithin(f *ast.FuncDecl) int {
 	count := 0
