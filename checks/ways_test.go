@@ -576,6 +576,55 @@ func TestWaysOfExplain(t *testing.T) {
 	}
 }
 
+// Chapter 19, its beginning and 'Ways': the package stands on api, tree, words, nnf, tableau, buchi and empty; what is asked of one formula and of two is one function, to which each of the four calls comes with a closure that makes its tree; rows are tried by a closure that calls itself, and asked by another one; formulas come one by one.
+func TestWaysOfSolve(t *testing.T) {
+	files := codeOf(t, "solve")
+	calls := callsOf(files)
+	var tries, asks, variadic int
+	for _, file := range files {
+		for _, i := range file.Imports {
+			below := []string{`"augur/api"`, `"augur/tree"`, `"augur/words"`, `"augur/nnf"`, `"augur/tableau"`, `"augur/buchi"`, `"augur/empty"`}
+			if strings.HasPrefix(i.Path.Value, `"augur/`) && !slices.Contains(below, i.Path.Value) {
+				t.Errorf("it imports %s", i.Path.Value)
+			}
+		}
+		for _, d := range file.Decls {
+			f, ok := d.(*ast.FuncDecl)
+			if !ok {
+				continue
+			}
+			tries += callsToOwnClosures(f)
+			asks += countOf(f.Name.Name == "Core" && closuresHandedTo(f, "firstRow") == 1)
+			variadic += countOf(takesOneByOne(f) && slices.Contains([]string{"Core", "ask", "refute"}, f.Name.Name))
+		}
+	}
+	for name, by := range map[string]string{"Sat": "ask", "Valid": "refute", "Implies": "refute", "Same": "refute"} {
+		if closures := closuresIn(files, name); !calls[name][by] || !calls["refute"]["ask"] || closures != 1 {
+			t.Errorf("%s: %d closures; %v", name, closures, calls[name])
+		}
+	}
+	if tries < 2 || asks != 1 || variadic != 3 {
+		t.Errorf("%d calls of closures by which rows are tried, %d by which they are asked, %d calls that take formulas one by one", tries, asks, variadic)
+	}
+}
+
+// closuresIn counts the closures that a function has.
+func closuresIn(files []*ast.File, function string) int {
+	count := 0
+	for _, file := range files {
+		for _, d := range file.Decls {
+			if f, ok := d.(*ast.FuncDecl); ok && f.Name.Name == function {
+				ast.Inspect(f.Body, func(n ast.Node) bool {
+					_, is := n.(*ast.FuncLit)
+					count += countOf(is)
+					return true
+				})
+			}
+		}
+	}
+	return count
+}
+
 // closuresHandedTo counts the closures, written there or ahead by a name, that one function hands to another one as its last argument.
 func closuresHandedTo(f *ast.FuncDecl, function string) int {
 	made := map[string]bool{}
